@@ -1,0 +1,1 @@
+"""Fairtrees: what may come and what must come in fair runs of a machine."""

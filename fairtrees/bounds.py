@@ -1,0 +1,20 @@
+"""The numbers by which the program is bounded."""
+
+# The wishes that are none: every endless run is fair.
+FREE = ()
+
+# Standings of a machine, and so rooms of a layout.
+MOST = 40
+
+# Names that one standing bears.
+NAMES = 8
+
+# Wishes at once.
+WISHES = 4
+
+# Rows of a saying, and words of its text.
+ROWS = 160
+WORDS = 400
+
+# Entries of a keeper's book.
+BOOK = 300
