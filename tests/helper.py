@@ -2,10 +2,12 @@
 
 import copy
 import random
+import sys
 from unittest import mock
 
 SOME_WORDS = ("some", "all")
 WORDS = ("yes", "no", "not", "and", "or", "step", "some", "all", "next", "once", "ever", "until", "unless")
+LINES = 100000
 
 
 class Greedy:
@@ -101,6 +103,25 @@ def refusal(call, *args, **more):
         return call(*args, **more)
     except ValueError as error:
         return error
+
+
+def soon(call, *args, **more):
+    """Tell what the call tells; AssertionError as soon as Python has gone through more than LINES lines for it."""
+    left = LINES
+
+    def trace(frame, event, arg):
+        nonlocal left
+        left -= 1
+        if left < 0:
+            raise AssertionError(f"more than {LINES} lines gone through")
+        return trace
+
+    ahead = sys.gettrace()
+    sys.settrace(trace)
+    try:
+        return call(*args, **more)
+    finally:
+        sys.settrace(ahead)
 
 
 def unchanged(case, call, *args, **more):

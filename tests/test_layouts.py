@@ -192,10 +192,10 @@ class Most(unittest.TestCase):
     def test_laying_ends_as_soon_as_there_is_one_room_too_many(self):
         cells = tuple((name, 9, 0) for name in "abcd")
         commands = tuple((name, (), ((name, (name, 1)),)) for name in "abcd")
-        with self.assertRaises(TooGreat):
-            layouts.lay((cells, commands, (), True))
-        with self.assertRaises(TooGreat):
-            layouts.lay((cells, commands, (), True), most=1)
+        for most in (1, 2, 40):
+            with self.assertRaises(TooGreat):
+                helper.soon(layouts.lay, (cells, commands, (), True), most=most)
+        self.assertIs(helper.soon(layouts.right_layout, (cells, commands, (), True), ()), False)
 
     def test_somewhat_beyond_the_bounds(self):
         self.assertEqual(len(layouts.lay(line(45), most=45)[1]), 45)

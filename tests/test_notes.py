@@ -100,10 +100,10 @@ class TextOf(unittest.TestCase):
         self.assertEqual(notes.text_of(twice(8)).count("and"), 127)
         for many in (9, 40, 160):
             with self.assertRaises(TooGreat):
-                notes.text_of(twice(many))
+                helper.soon(notes.text_of, twice(many))
 
     def test_rows_to_which_the_last_one_does_not_lead_do_not_count(self):
-        self.assertEqual(notes.text_of((*twice(159), ("not", 0))), "not yes")
+        self.assertEqual(helper.soon(notes.text_of, (*twice(159), ("not", 0))), "not yes")
         self.assertEqual(notes.text_of((*(("yes",),) * 159, ("and", 5, 7))), "and yes yes")
 
     def test_sayings_by_chance(self):
