@@ -16,5 +16,11 @@ WISHES = 4
 ROWS = 160
 WORDS = 400
 
+# Numbers of a run, path and ring together.
+NUMBERS = 400
+
+# Walks that are told at once.
+WALKS = 2000
+
 # Entries of a keeper's book.
 BOOK = 300

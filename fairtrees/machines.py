@@ -42,9 +42,19 @@ def is_wish(thing):
     return (is_name(when) or is_text(when) and when == "") and is_name(then)
 
 
+def standings_of(machine):
+    """Tell the set of all standings of the machine."""
+    return tuple(range(len(machine[0])))
+
+
 def bears(machine, standing, name):
     """Say whether the standing bears the name; each bears the text without signs."""
     return name == "" or name in machine[1][standing]
+
+
+def is_borne(machine, standings, name):
+    """Say whether one of these standings bears the name."""
+    return any([bears(machine, standing, name) for standing in standings])
 
 
 def bearers(machine, name):
@@ -55,6 +65,15 @@ def bearers(machine, name):
 def behind(machine, standing):
     """Tell the set of the standings from which a step leads to this one."""
     return tuple([other for other, row in enumerate(machine[0]) if standing in row])
+
+
+def back_rows(machine):
+    """Tell for each standing the list of those from which a step leads to it."""
+    rows = [[] for standing in machine[0]]
+    for standing, row in enumerate(machine[0]):
+        for other in row:
+            rows[other].append(standing)
+    return rows
 
 
 def reached(machine, standing):

@@ -25,3 +25,18 @@ def is_names(thing, most):
 def set_of(standings):
     """Tell the set of these standings, which may come in any order and more than once."""
     return tuple(sorted(set(standings)))
+
+
+def joined(one, other):
+    """Tell the set of what is in one of both or in both."""
+    return tuple(sorted(set(one) | set(other)))
+
+
+def common(one, other):
+    """Tell the set of what is in both."""
+    return tuple(sorted(set(one) & set(other)))
+
+
+def without(one, other):
+    """Tell the set of what is in the one and not in the other."""
+    return tuple(sorted(set(one) - set(other)))

@@ -1,6 +1,7 @@
 """What several tests need: things of every kind, and changes of a thing at every depth."""
 
 import copy
+import itertools
 import random
 import sys
 from unittest import mock
@@ -140,6 +141,17 @@ def some_machine(chance, many):
     return steps, marks
 
 
+def some_wishes(chance, many):
+    """Tell so many wishes, by the chance handed in; nobody bears the name zz."""
+    names = ("a", "b", "c", "dd", "mark", "zz")
+    return tuple((chance.choice(("", *names)), chance.choice(names)) for _ in range(many))
+
+
+def some_set(chance, many):
+    """Tell a set of standings of a machine of so many, by the chance handed in."""
+    return tuple(sorted(chance.sample(range(many), chance.choice([0, many, chance.randint(0, many)]))))
+
+
 def some_saying(chance, many):
     """Tell a saying of so many rows, by the chance handed in."""
     rows = [chance.choice([("yes",), ("no",), ("mark", "a"), ("mark", "step" + "s")])]
@@ -157,3 +169,81 @@ def some_saying(chance, many):
 def chances(many):
     """Tell so many sources of chance, the same ones each time."""
     return [random.Random(seed) for seed in range(many)]
+
+
+def marked(machine, standing, name):
+    return name == "" or name in machine[1][standing]
+
+
+def met(machine, standings, wishes):
+    """Say whether a run that has just these standings again and again for ever meets each wish."""
+    def borne(name):
+        return any(marked(machine, one, name) for one in standings)
+    return all(borne(then) or not borne(when) for when, then in wishes)
+
+
+def leads(machine, within):
+    """Tell all pairs of standings so that one step or more within, both ends with it, lead from the one to the other."""
+    rows = {one: sum(1 << other for other in machine[0][one] if other in within) for one in within}
+    for mid in within:
+        for one in within:
+            if rows[one] >> mid & 1:
+                rows[one] |= rows[mid]
+    return {(one, other) for one in within for other in within if rows[one] >> other & 1}
+
+
+def fair_sets(machine, wishes):
+    """Tell, by going through all sets, the sets of standings that a fair run can have again and again for ever."""
+    many = len(machine[0])
+    told = []
+    for size in range(1, many + 1):
+        for row in itertools.combinations(range(many), size):
+            pairs = leads(machine, row)
+            if len(pairs) == size * size and met(machine, row, wishes):
+                told.append(set(row))
+    return told
+
+
+def ever_of(machine, within, wishes):
+    """Tell, by going through all sets, where a fair run begins that stays within."""
+    pairs = leads(machine, within)
+    fair = set().union(*[one for one in fair_sets(machine, wishes) if one <= set(within)])
+    return tuple(one for one in within if one in fair or any((one, other) in pairs for other in fair))
+
+
+def ever_by_choice(machine, within, wishes):
+    """Tell where a fair run begins that stays within, by trying whose whens it leaves for good."""
+    fair = set()
+    for left in itertools.product((False, True), repeat=len(wishes)):
+        gone = [when for (when, then), off in zip(wishes, left) if off]
+        kept = [then for (when, then), off in zip(wishes, left) if not off]
+        inner = [one for one in within if not any(marked(machine, one, name) for name in gone)]
+        pairs = leads(machine, inner)
+        for one in inner:
+            part = [other for other in inner if (one, other) in pairs and (other, one) in pairs]
+            if part and all(any(marked(machine, other, name) for other in part) for name in kept):
+                fair.add(one)
+    pairs = leads(machine, within)
+    return tuple(one for one in within if one in fair or any((one, other) in pairs for other in fair))
+
+
+def unrolled(run, many):
+    """Tell the standings of a run at the first so many places."""
+    path, ring = run
+    told = list(path)
+    while len(told) < many:
+        told += ring
+    return told[:many]
+
+
+def is_run(machine, thing):
+    """Say by Python's own means whether the thing is a right run of the machine."""
+    if type(thing) is not tuple or len(thing) != 2 or [type(one) for one in thing] != [tuple, tuple]:
+        return False
+    path, ring = thing
+    if not ring or len(path) + len(ring) > 400 or any(type(one) is not int for one in path + ring):
+        return False
+    if any(not 0 <= one < min(40, len(machine[0])) for one in path + ring):
+        return False
+    told = unrolled(thing, len(path) + len(ring) + 1)
+    return all(other in machine[0][one] for one, other in zip(told, told[1:]))

@@ -2,8 +2,8 @@
 
 import unittest
 
-from fairtrees import layouts, machines, notes, programs, sayings
-from fairtrees.errors import TreeError
+from fairtrees import layouts, machines, notes, parts, programs, runs, sayings, walks
+from fairtrees.errors import NoRun, TreeError
 from tests import helper
 from tests.test_layouts import Right
 from tests.test_machines import ORDINARY as MACHINE
@@ -14,6 +14,12 @@ OTHER = (((0,),), (("b",),))
 WISHES = (("", "a"), ("b", "a"))
 TEXT = "all until yes a"
 LINES = "a b > 0 2\n>\n> 1"
+RUN = ((3, 1), (0, 1))
+
+
+def pair_of(path, ring):
+    return runs.Run(path, ring).pair()
+
 
 QUESTIONS = [
     (machines.check, (MACHINE,)), (machines.check, (OTHER,)), (machines.check, ([],)),
@@ -27,18 +33,27 @@ QUESTIONS = [
     (sayings.check, (SAYING,)), (sayings.check, ((("yes",), ["no"]),)),
     (notes.text_of, (SAYING,)), (notes.read, (TEXT,)), (notes.read, ([TEXT],)),
     (notes.machine_text, (MACHINE,)), (notes.read_machine, (LINES,)), (notes.read_machine, (["> 0"],)),
+    (runs.right_run, (MACHINE, RUN)), (runs.right_run, (OTHER, RUN)), (runs.right_run, (MACHINE, ([3], [0, {}]))),
+    (runs.is_fair, (MACHINE, RUN), {"wishes": WISHES}), (runs.is_fair, (MACHINE, RUN)),
+    (runs.holds_on, (("until", (1, 3), (0,)), RUN)), (runs.holds_on, (("ever", (0,)), RUN)),
+    (pair_of, RUN), (pair_of, ((3, 0), (1, 0, 1, 0))), (pair_of, ([3], [0])),
+    (walks.walks, (MACHINE, 3, 4)), (walks.walks, (OTHER, 0, 4)), (walks.walks, (MACHINE, 3, 60)),
+    (walks.walks, ((((0, 1), (0, 1)), ((), ())), 0, 20)),
+    (parts.strong_parts, (MACHINE, (0, 1, 2, 3))), (parts.strong_parts, (OTHER, ())),
+    (parts.fair_run, (MACHINE, 3, (0, 1, 2, 3)), {"wishes": WISHES}), (parts.fair_run, (MACHINE, 3, (0, 1, 2, 3))),
+    (parts.fair_run, (OTHER, 0, (0,)), {"wishes": WISHES}),
 ]
 
 
-def told_of(call, args):
-    told = helper.refusal(call, *args)
+def told_of(call, args, more=None):
+    told = helper.refusal(call, *args, **(more or {}))
     return (type(told), vars(told)) if isinstance(told, Exception) else told
 
 
 class Answers(unittest.TestCase):
     def test_nothing_handed_in_is_changed(self):
-        for call, args in QUESTIONS:
-            helper.unchanged(self, call, *args)
+        for call, args, *more in QUESTIONS:
+            helper.unchanged(self, call, *args, **(more[0] if more else {}))
 
     def test_nothing_handed_in_as_anything_is_changed(self):
         for call in (machines.check, machines.check_wishes, programs.check, sayings.check, notes.read, notes.read_machine):
@@ -46,21 +61,34 @@ class Answers(unittest.TestCase):
                 self.assertIsInstance(helper.unchanged(self, call, thing), TreeError)
 
     def test_the_same_question_is_answered_equally_again(self):
-        first = [told_of(call, args) for call, args in QUESTIONS]
-        self.assertEqual([told_of(call, args) for call, args in QUESTIONS], first)
-        backward = [told_of(call, args) for call, args in QUESTIONS[::-1]]
+        first = [told_of(*question) for question in QUESTIONS]
+        self.assertEqual([told_of(*question) for question in QUESTIONS], first)
+        backward = [told_of(*question) for question in QUESTIONS[::-1]]
         self.assertEqual(backward[::-1], first)
-        for (call, args), told in zip(QUESTIONS, first):
-            self.assertEqual(told_of(call, args), told)
-            self.assertEqual(told_of(call, args), told)
+        for question, told in zip(QUESTIONS, first):
+            self.assertEqual(told_of(*question), told)
+            self.assertEqual(told_of(*question), told)
+
+    def test_a_told_list_that_is_changed_changes_no_later_answer(self):
+        lists = 0
+        for question in QUESTIONS:
+            told = told_of(*question)
+            if isinstance(told, list):
+                lists += 1
+                kept = list(told)
+                told.reverse()
+                told.append(told)
+                self.assertEqual(told_of(*question), kept)
+        self.assertGreater(lists, 3)
 
     def test_what_is_told_as_a_tuple_has_nothing_else_in_it(self):
         tuples = 0
-        for call, args in QUESTIONS:
-            told = helper.refusal(call, *args)
-            if isinstance(told, tuple):
-                tuples += 1
-                self.assertTrue(helper.is_plain(told), call)
+        for call, args, *more in QUESTIONS:
+            told = helper.refusal(call, *args, **(more[0] if more else {}))
+            for one in told if isinstance(told, list) else [told]:
+                if isinstance(one, tuple):
+                    tuples += 1
+                    self.assertTrue(helper.is_plain(one), call)
         self.assertGreater(tuples, 9)
 
     def test_where_a_point_says_anything_no_other_error_comes_of_it(self):
@@ -70,6 +98,9 @@ class Answers(unittest.TestCase):
                 self.assertTrue(told is True or type(told) is tuple or isinstance(told, TreeError), (call, told))
         for thing in helper.anything():
             self.assertIs(layouts.right_layout(PROGRAM, thing), False)
+            self.assertIs(runs.right_run(MACHINE, thing), False)
+            told = helper.refusal(pair_of, thing, thing)
+            self.assertTrue(type(told) is tuple or isinstance(told, NoRun), told)
 
 
 if __name__ == "__main__":

@@ -181,6 +181,50 @@ class Language(unittest.TestCase):
             self.assertIsInstance(node.type, ast.Name, (name, node.lineno))
             self.assertIn(node.type.id, own | {"KeyError"}, (name, node.lineno))
 
+    def test_double_underscore_methods(self):
+        for name, node in nodes(ast.FunctionDef):
+            if node.name in ("__eq__", "__len__", "__str__", "__repr__"):
+                kept = set()
+                for inner in ast.walk(node):
+                    if isinstance(inner, ast.Assign):
+                        self.assertIsInstance(inner.value, (ast.List, ast.ListComp), (name, inner.lineno))
+                        kept |= {target.id for target in inner.targets}
+                    self.assertNotIsInstance(inner, (ast.AugAssign, ast.Delete), (name, node.name))
+                    if isinstance(inner, ast.Expr) and isinstance(inner.value, ast.Call):
+                        self.assertIn(inner.value.func.value.id, kept, (name, inner.lineno))
+                    if isinstance(inner, ast.Return) and node.name == "__len__":
+                        self.assertTrue(is_call_of(inner.value, ("len",)), (name, inner.lineno))
+                    if isinstance(inner, ast.Return) and node.name in ("__str__", "__repr__"):
+                        self.assertIsInstance(inner.value.func.value, ast.Constant, (name, inner.lineno))
+                        self.assertEqual(inner.value.func.attr, "join", (name, inner.lineno))
+                self.assertIsInstance(node.body[-1], ast.Return)
+
+    def test_methods_and_attributes(self):
+        stored = {node.attr for name, node in nodes(ast.Attribute) if isinstance(node.ctx, ast.Store)}
+        called = {id(node.func) for name, node in nodes(ast.Call)}
+        self.assertEqual(stored & OWN_METHODS, set())
+        for name, node in nodes(ast.Attribute):
+            if isinstance(node.ctx, ast.Load) and id(node) not in called:
+                self.assertIn(node.attr, stored, (name, node.lineno))
+            if isinstance(node.ctx, ast.Store):
+                self.assertNotIn(node.attr, METHODS, (name, node.lineno))
+
+    def test_stored_sets_are_asked_and_not_passed_on(self):
+        for name, tree in TREES.items():
+            for function in ast.walk(tree):
+                if not isinstance(function, ast.FunctionDef):
+                    continue
+                kept = [node.targets[0].id for node in ast.walk(function) if isinstance(node, ast.Assign)
+                        and (isinstance(node.value, (ast.Set, ast.SetComp)) or is_call_of(node.value, ("set",)))]
+                self.assertEqual(len(kept), len(set(kept)), (name, function.name))
+                for outer in ast.walk(function):
+                    for inner in ast.iter_child_nodes(outer):
+                        if isinstance(inner, ast.Name) and inner.id in kept and isinstance(inner.ctx, ast.Load):
+                            fits = isinstance(outer, ast.Attribute) and outer.attr in ("add", "discard")
+                            fits = fits or isinstance(outer, ast.Compare) and inner in outer.comparators
+                            fits = fits or is_call_of(outer, ("len", "sorted"))
+                            self.assertTrue(fits, (name, inner.lineno))
+
     def test_loops_do_not_change_what_they_go_through(self):
         for name, node in nodes(ast.For):
             walked = {one.id for one in ast.walk(node.iter) if isinstance(one, ast.Name)}

@@ -154,6 +154,21 @@ class Standings(unittest.TestCase):
         self.assertIs(machines.bears(ORDINARY, 0, "b"), False)
         self.assertIs(machines.bears(ORDINARY, 2, ""), True)
 
+    def test_is_borne(self):
+        self.assertIs(machines.is_borne(ORDINARY, (2, 1), "b"), True)
+        self.assertIs(machines.is_borne(ORDINARY, (0, 2), "b"), False)
+        self.assertIs(machines.is_borne(ORDINARY, (2,), ""), True)
+        self.assertIs(machines.is_borne(ORDINARY, (), ""), False)
+
+    def test_standings_of(self):
+        self.assertEqual(machines.standings_of(ORDINARY), (0, 1, 2, 3))
+        self.assertEqual(machines.standings_of((((),), ((),))), (0,))
+
+    def test_back_rows(self):
+        for machine in (ORDINARY, (((),), ((),)), *[helper.some_machine(chance, 20) for chance in helper.chances(9)]):
+            told = [list(machines.behind(machine, one)) for one in range(len(machine[0]))]
+            self.assertEqual(machines.back_rows(machine), told)
+
     def test_behind(self):
         self.assertEqual([machines.behind(ORDINARY, one) for one in range(4)], [(1,), (0, 3), (0,), (3,)])
         self.assertEqual(machines.behind((((),), ((),)), 0), ())

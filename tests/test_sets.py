@@ -54,6 +54,17 @@ class Sets(unittest.TestCase):
         self.assertEqual(given, [3, 1, 3, 2, 1])
         self.assertEqual(sets.set_of(()), ())
 
+    def test_joined_common_and_without(self):
+        cases = (
+            ((), (), (), (), ()), ((1, 3), (), (1, 3), (), (1, 3)), ((), (1, 3), (1, 3), (), ()),
+            ((1, 3), (1, 3), (1, 3), (1, 3), ()), ((2, 39), (0, 5, 39), (0, 2, 5, 39), (39,), (2,)),
+            ((10, 20, 30), (8, 16, 24), (8, 10, 16, 20, 24, 30), (), (10, 20, 30)),
+        )
+        for one, other, both, shared, left in cases:
+            self.assertEqual(sets.joined(one, other), both)
+            self.assertEqual(sets.common(one, other), shared)
+            self.assertEqual(sets.without(one, other), left)
+
 
 if __name__ == "__main__":
     unittest.main()
