@@ -53,7 +53,7 @@ def least_form(path, ring):
 def least_ring(ring):
     """Tell the shortest ring that, told over, is this one."""
     for many in range(1, len(ring)):
-        if len(ring) % many == 0 and ring[:many] * (len(ring) // many) == ring:
+        if ring[:many] * (len(ring) // many) == ring:
             return ring[:many]
     return ring
 

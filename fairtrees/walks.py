@@ -9,7 +9,7 @@ def walks(machine, standing, length):
     counts = counts_of(machine, length)
     if counts[length][standing] > WALKS:
         raise TooMany("more than 2000 walks")
-    told = [(standing,)] if counts[length][standing] > 0 else []
+    told = [(standing,)]
     for left in range(length - 1, -1, -1):
         # Walks that cannot be ended are not begun, so there are never more of them than are told in the end.
         told = [(*walk, other) for walk in told for other in machine[0][walk[-1]] if counts[left][other] > 0]

@@ -211,6 +211,18 @@ def ever_of(machine, within, wishes):
     return tuple(one for one in within if one in fair or any((one, other) in pairs for other in fair))
 
 
+def until_of(machine, within, goal):
+    """Tell, by going through all sets, the least one that has the goal and what leads into it through within."""
+    many = len(machine[0])
+    told = set(range(many))
+    for size in range(many + 1):
+        for row in itertools.combinations(range(many), size):
+            closed = all(one in row for one in within if any(other in row for other in machine[0][one]))
+            if closed and set(goal) <= set(row):
+                told &= set(row)
+    return tuple(sorted(told))
+
+
 def ever_by_choice(machine, within, wishes):
     """Tell where a fair run begins that stays within, by trying whose whens it leaves for good."""
     fair = set()

@@ -1,8 +1,9 @@
 """Point 2: nothing handed in is changed, and the same question is answered equally again."""
 
+import functools
 import unittest
 
-from fairtrees import layouts, machines, notes, parts, programs, runs, sayings, walks
+from fairtrees import evidence, layouts, machines, notes, papers, parts, programs, runs, sayings, telling, trees, walks, ways
 from fairtrees.errors import NoRun, TreeError
 from tests import helper
 from tests.test_layouts import Right
@@ -42,6 +43,25 @@ QUESTIONS = [
     (parts.strong_parts, (MACHINE, (0, 1, 2, 3))), (parts.strong_parts, (OTHER, ())),
     (parts.fair_run, (MACHINE, 3, (0, 1, 2, 3)), {"wishes": WISHES}), (parts.fair_run, (MACHINE, 3, (0, 1, 2, 3))),
     (parts.fair_run, (OTHER, 0, (0,)), {"wishes": WISHES}),
+    (ways.Way().until, (MACHINE, (0, 1), (2,))), (ways.Way().ever, (MACHINE, (0, 1))),
+    *[question for way in (ways.Rounds(), ways.Worklist()) for question in (
+        (way.until, (MACHINE, (0, 3), (1,))), (way.until, (OTHER, (), (0,))),
+        (way.ever, (MACHINE, (0, 1, 3)), {"wishes": WISHES}), (way.ever, (OTHER, (0,)), {"wishes": WISHES}),
+        (way.unless, (MACHINE, (3,), (2,)), {"wishes": WISHES}), (way.unless, (OTHER, (0,), ())),
+        (functools.partial(telling.tell, way=way), (MACHINE, SAYING), {"wishes": WISHES}),
+    )],
+    (evidence.evidence, (MACHINE, (0, 1, 3), (2,)), {"wishes": WISHES}), (evidence.evidence, (OTHER, (0,), ()), {"wishes": WISHES}),
+    (evidence.evidence, (MACHINE, (0, 1, 3), (2,)), {"ends": False}),
+    (evidence.right_evidence, (MACHINE, (0, 1, 3), (), evidence.evidence(MACHINE, (0, 1, 3), ()))),
+    (evidence.right_evidence, (MACHINE, (0, 1, 3), (), ([0, None], [[0]], {}))),
+    (telling.tell, (MACHINE, SAYING), {"wishes": WISHES}), (telling.tell, (OTHER, SAYING), {"wishes": WISHES}),
+    (telling.holds, (MACHINE, SAYING, 0)), (telling.holds, (OTHER, SAYING, 0), {"wishes": WISHES}),
+    (telling.fair, (MACHINE,)), (telling.fair, (OTHER,), {"wishes": WISHES}),
+    (papers.paper, (MACHINE, SAYING), {"wishes": WISHES}), (papers.paper, (OTHER, SAYING)),
+    (papers.right_paper, (MACHINE, SAYING, papers.paper(MACHINE, SAYING))), (papers.right_paper, (MACHINE, SAYING, ([], {}, [0]))),
+    (trees.why, (MACHINE, SAYING, 0), {"wishes": WISHES}), (trees.why, (OTHER, SAYING, 0), {"row": 2}),
+    (trees.right_tree, (MACHINE, SAYING, telling.tell(MACHINE, SAYING), trees.why(MACHINE, SAYING, 3))),
+    (trees.right_tree, (MACHINE, SAYING, ((),) * 7, ([0, 0, True, None, []], {}))),
 ]
 
 
@@ -99,6 +119,10 @@ class Answers(unittest.TestCase):
         for thing in helper.anything():
             self.assertIs(layouts.right_layout(PROGRAM, thing), False)
             self.assertIs(runs.right_run(MACHINE, thing), False)
+            self.assertIs(evidence.right_evidence(MACHINE, (0, 1), (), thing, wishes=WISHES), False)
+            self.assertIs(evidence.right_evidence(MACHINE, (0, 1), (), thing, ends=False), False)
+            self.assertIs(papers.right_paper(MACHINE, SAYING, thing, wishes=WISHES), False)
+            self.assertIs(trees.right_tree(MACHINE, SAYING, ((),) * 7, thing), False)
             told = helper.refusal(pair_of, thing, thing)
             self.assertTrue(type(told) is tuple or isinstance(told, NoRun), told)
 
