@@ -22,5 +22,11 @@ NUMBERS = 400
 # Walks that are told at once.
 WALKS = 2000
 
+# Rows of a sheet, numbers of one row, least and greatest rows of one part, and how often their words change there.
+SHEET = 1000
+JOINED = 40
+POINTS = 12
+CHANGES = 2
+
 # Entries of a keeper's book.
 BOOK = 300

@@ -1,8 +1,9 @@
 """Evidence: ranks that fall to a goal or a fair ring for a yes, and for a no what shuts fair runs out."""
 
 from fairtrees.bounds import FREE
+from fairtrees.knots import is_round
 from fairtrees.machines import back_rows, bears
-from fairtrees.parts import fair_parts, failed_wish, has_step, not_bearing, ring_from, strong_parts
+from fairtrees.parts import fair_parts, failed_wish, not_bearing, ring_from, strong_parts
 from fairtrees.runs import is_fair, right_run
 from fairtrees.sets import set_of
 from fairtrees.signs import is_number, is_number_from, is_tuple, is_tuple_of
@@ -130,7 +131,7 @@ def shuts_of(machine, shut, wishes):
     while waiting:
         whole = waiting.pop()
         for number, part in enumerate(strong_parts(machine, whole)):
-            wish = failed_wish(machine, part, wishes) if has_step(machine, part) else -1
+            wish = failed_wish(machine, part, wishes) if is_round(machine[0], part) else -1
             for standing in part:
                 rows[standing].append((number, wish))
             if wish != -1:

@@ -1,71 +1,20 @@
 """Strong parts of sets of standings, and the fair runs in them."""
 
 from fairtrees.bounds import FREE
+from fairtrees.knots import is_round, knots
 from fairtrees.machines import bearers, bears, is_borne
 from fairtrees.sets import common, set_of
 
 
 def strong_parts(machine, within):
     """Tell the strong parts of within, each a set; no step within leads from a part to a later one."""
-    leads = steps_inside(machine, within)
-    taken = {}
-    parts = []
-    # Gone through backward first and onward then, the parts come with those first that lead to no other.
-    for standing in reversed(ending_order(turned(leads))):
-        if standing not in taken:
-            parts.append(take_from(leads, standing, taken))
-    return parts
+    return knots(steps_inside(machine, within))
 
 
 def steps_inside(machine, within):
     """Tell for each standing of within the list of those of within to which a step leads from it."""
     inside = {standing: True for standing in within}
     return {standing: [other for other in machine[0][standing] if other in inside] for standing in within}
-
-
-def turned(leads):
-    """Tell the same steps, each led the other way."""
-    told = {standing: [] for standing in leads}
-    for standing in leads:
-        for other in leads[standing]:
-            told[other].append(standing)
-    return told
-
-
-def ending_order(leads):
-    """Tell the standings in the order in which they are done when each is done behind all that it leads to anew."""
-    seen = set()
-    order = []
-    waiting = [(standing, False) for standing in leads]
-    while waiting:
-        standing, done = waiting.pop()
-        if done:
-            order.append(standing)
-        elif standing not in seen:
-            seen.add(standing)
-            waiting.append((standing, True))
-            waiting.extend([(other, False) for other in leads[standing]])
-    return order
-
-
-def take_from(leads, start, taken):
-    """Tell the set of those that are reached from start by way of such as are not taken yet, and take them."""
-    taken[start] = True
-    part = []
-    waiting = [start]
-    while waiting:
-        standing = waiting.pop()
-        part.append(standing)
-        for other in leads[standing]:
-            if other not in taken:
-                taken[other] = True
-                waiting.append(other)
-    return set_of(part)
-
-
-def has_step(machine, part):
-    """Say whether a step leads from one to one of a strong part."""
-    return len(part) > 1 or part[0] in machine[0][part[0]]
 
 
 def failed_wish(machine, part, wishes):
@@ -88,7 +37,7 @@ def fair_parts(machine, within, wishes):
     while waiting:
         whole = waiting.pop()
         for part in strong_parts(machine, whole):
-            if has_step(machine, part):
+            if is_round(machine[0], part):
                 failed = failed_wish(machine, part, wishes)
                 if failed == -1:
                     told.append(part)

@@ -108,13 +108,18 @@ def refusal(call, *args, **more):
 
 def soon(call, *args, **more):
     """Tell what the call tells; AssertionError as soon as Python has gone through more than LINES lines for it."""
-    left = LINES
+    return sooner(LINES, call, *args, **more)
+
+
+def sooner(lines, call, *args, **more):
+    """Tell what the call tells; AssertionError as soon as Python has gone through more than so many lines for it."""
+    left = lines
 
     def trace(frame, event, arg):
         nonlocal left
         left -= 1
         if left < 0:
-            raise AssertionError(f"more than {LINES} lines gone through")
+            raise AssertionError(f"more than {lines} lines gone through")
         return trace
 
     ahead = sys.gettrace()
@@ -152,6 +157,11 @@ def some_set(chance, many):
     return tuple(sorted(chance.sample(range(many), chance.choice([0, many, chance.randint(0, many)]))))
 
 
+def put(row, at, thing):
+    """Tell the tuple with the thing in this place."""
+    return row[:at] + (thing,) + row[at + 1:]
+
+
 def some_saying(chance, many):
     """Tell a saying of so many rows, by the chance handed in."""
     rows = [chance.choice([("yes",), ("no",), ("mark", "a"), ("mark", "step" + "s")])]
@@ -164,6 +174,61 @@ def some_saying(chance, many):
         head, parts = chance.choice(kinds)
         rows.append(head + tuple(chance.randrange(max(0, len(rows) - near), len(rows)) for _ in range(parts)))
     return tuple(rows)
+
+
+def some_sheet(chance, many, points, changes=2):
+    """Tell a sheet of so many rows, with so many least and greatest ones, whose words change so often at most."""
+    order = chance.sample(range(many), many)
+    at = sorted(chance.sample(range(many), min(points, many)))
+    cuts = chance.choices(range(len(at) + 1), k=chance.randint(0, changes))
+    words = chance.sample(["least", "greatest"], 2)
+    rows = {}
+    for place, number in enumerate(order):
+        # Other rows lead to points or onward in the drawn order, so that no round is without a point.
+        onward = [other for other in order[place + 1:] if other not in at]
+        led = [chance.choice(at if at and chance.random() < 0.5 or not onward else onward) if at or onward else None
+               for _ in range(chance.choice([0, 1, 2, 2, 3]))]
+        word = chance.choice(["mark", "bare", *["and", "or", "some", "all"] * 2])
+        if number in at:
+            turn = at.index(number)
+            rows[number] = (words[sum(turn >= cut for cut in cuts) % 2], chance.randrange(many))
+        elif word in ("and", "or") and None not in led:
+            rows[number] = (word, tuple(led))
+        elif word in ("some", "all") and led and None not in led:
+            rows[number] = (word, led[0])
+        else:
+            rows[number] = (chance.choice(["mark", "bare"]), chance.choice("abc"))
+    return tuple(rows[number] for number in range(many))
+
+
+def knotted_sheet(chance, points, changes=2):
+    """Tell a sheet with so many points that mostly lead to one another, and whose words change so often at most."""
+    cuts = chance.choices(range(points + 1), k=changes)
+    words = chance.sample(["least", "greatest"], 2)
+    rows = [(words[sum(turn >= cut for cut in cuts) % 2], points + 2 * turn) for turn in range(points)]
+    ends = [*range(3 * points, 5 * points + 2)]
+    for _ in range(points):
+        joins = chance.sample(["and", "or"], 2)
+        rows.append((joins[0], (len(rows) + 1, *chance.sample(ends, chance.randint(1, 2)))))
+        rows.append((joins[1], tuple(chance.sample(ends, 2))))
+    rows += [(word, turn) for turn in range(points) for word in SOME_WORDS] + [("mark", "a"), ("bare", "b")]
+    return tuple(rows)
+
+
+def numbered_anew(sheet, places):
+    """Tell the sheet with each row in its place of these."""
+    rows = [None] * len(sheet)
+    for place, (word, inner) in zip(places, sheet):
+        if type(inner) is tuple:
+            inner = tuple(places[other] for other in inner)
+        rows[place] = (word, places[inner] if type(inner) is int else inner)
+    return tuple(rows)
+
+
+def points_last(sheet):
+    """Tell the sheet with its least and greatest rows behind all others, else in order."""
+    numbers = sorted(range(len(sheet)), key=lambda number: sheet[number][0] in ("least", "greatest"))
+    return numbered_anew(sheet, [numbers.index(number) for number in range(len(sheet))])
 
 
 def chances(many):

@@ -3,13 +3,15 @@
 import functools
 import unittest
 
-from fairtrees import evidence, layouts, machines, notes, papers, parts, programs, runs, sayings, telling, trees, walks, ways
+from fairtrees import evidence, games, layouts, machines, notes, papers, parts, programs, rounds, runs, sayings, sheets, sides
+from fairtrees import telling, trees, walks, ways
 from fairtrees.errors import NoRun, TreeError
 from tests import helper
 from tests.test_layouts import Right
 from tests.test_machines import ORDINARY as MACHINE
 from tests.test_programs import ORDINARY as PROGRAM
 from tests.test_sayings import ORDINARY as SAYING
+from tests.test_sheets import ORDINARY as SHEET
 
 OTHER = (((0,),), (("b",),))
 WISHES = (("", "a"), ("b", "a"))
@@ -62,7 +64,17 @@ QUESTIONS = [
     (trees.why, (MACHINE, SAYING, 0), {"wishes": WISHES}), (trees.why, (OTHER, SAYING, 0), {"row": 2}),
     (trees.right_tree, (MACHINE, SAYING, telling.tell(MACHINE, SAYING), trees.why(MACHINE, SAYING, 3))),
     (trees.right_tree, (MACHINE, SAYING, ((),) * 7, ([0, 0, True, None, []], {}))),
+    (sheets.check, (SHEET,)), (sheets.check, ((("and", [0]), ["some", 0]),)), (sheets.opposite, (SHEET,)),
+    *[(by, args) for by in (rounds.by_rounds, games.by_games, sides.sheet_paper)
+      for args in ((MACHINE, SHEET), (OTHER, SHEET), (MACHINE, sheets.opposite(SHEET)))],
+    (sides.right_side, (MACHINE, SHEET, sides.sheet_paper(MACHINE, SHEET)[0])),
+    (sides.right_side, (MACHINE, SHEET, ([0, 0, -1, []], {}))),
+    (sides.right_sheet_paper, (MACHINE, SHEET, sides.sheet_paper(MACHINE, SHEET))),
+    (sides.right_sheet_paper, (MACHINE, SHEET, ([[0, 0, -1, []]], {}))),
 ]
+
+
+CHECKS = (machines.check, machines.check_wishes, programs.check, sayings.check, notes.read, notes.read_machine, sheets.check)
 
 
 def told_of(call, args, more=None):
@@ -76,7 +88,7 @@ class Answers(unittest.TestCase):
             helper.unchanged(self, call, *args, **(more[0] if more else {}))
 
     def test_nothing_handed_in_as_anything_is_changed(self):
-        for call in (machines.check, machines.check_wishes, programs.check, sayings.check, notes.read, notes.read_machine):
+        for call in CHECKS:
             for thing in ([1, [2], {"a": [3]}], {"a": [1], 2: {}}, ([],), (([0],), [[]]), ((("a", [])),), [("yes",)]):
                 self.assertIsInstance(helper.unchanged(self, call, thing), TreeError)
 
@@ -112,7 +124,7 @@ class Answers(unittest.TestCase):
         self.assertGreater(tuples, 9)
 
     def test_where_a_point_says_anything_no_other_error_comes_of_it(self):
-        for call in (machines.check, machines.check_wishes, programs.check, sayings.check, notes.read, notes.read_machine):
+        for call in CHECKS:
             for thing in helper.anything():
                 told = helper.refusal(call, thing)
                 self.assertTrue(told is True or type(told) is tuple or isinstance(told, TreeError), (call, told))
@@ -123,6 +135,8 @@ class Answers(unittest.TestCase):
             self.assertIs(evidence.right_evidence(MACHINE, (0, 1), (), thing, ends=False), False)
             self.assertIs(papers.right_paper(MACHINE, SAYING, thing, wishes=WISHES), False)
             self.assertIs(trees.right_tree(MACHINE, SAYING, ((),) * 7, thing), False)
+            self.assertIs(sides.right_side(MACHINE, SHEET, thing), type(thing) is tuple and thing == ())
+            self.assertIs(sides.right_sheet_paper(MACHINE, SHEET, thing), False)
             told = helper.refusal(pair_of, thing, thing)
             self.assertTrue(type(told) is tuple or isinstance(told, NoRun), told)
 

@@ -5,6 +5,7 @@ import unittest
 
 from fairtrees.evidence import evidence, right_evidence
 from tests import helper
+from tests.helper import put
 
 ALL = tuple(range(40))
 
@@ -74,11 +75,6 @@ def shut(machine, inner, shuts, wishes):
 
 def ranked(told):
     return tuple(standing for standing, rank in enumerate(told[0]) if rank is not None)
-
-
-def put(row, at, thing):
-    """Tell the tuple with another thing at a place."""
-    return row[:at] + (thing,) + row[at + 1:]
 
 
 class Cases(unittest.TestCase):

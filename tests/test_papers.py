@@ -6,7 +6,8 @@ from fairtrees.evidence import evidence
 from fairtrees.papers import paper, right_paper
 from fairtrees.telling import tell
 from tests import helper
-from tests.test_evidence import judge, put, ranked
+from tests.helper import put
+from tests.test_evidence import judge, ranked
 from tests.test_telling import ALL, KINDS, MACHINE, meaning_of_row
 
 WISHES = (("", "a"), ("b", "a"))

@@ -5,7 +5,7 @@ import unittest
 from fairtrees.telling import tell
 from fairtrees.trees import right_tree, why
 from tests import helper
-from tests.test_evidence import put
+from tests.helper import put
 from tests.test_telling import ALL, FORMS, KINDS, MACHINE
 
 # 0 and 1 go round, 1 leads to 2 too, 2 stands still by a step, 3 has no step.
