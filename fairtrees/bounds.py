@@ -28,5 +28,9 @@ JOINED = 40
 POINTS = 12
 CHANGES = 2
 
+# Rows of a saying of which a sheet is made, and wishes with it.
+MADE_ROWS = 6
+MADE_WISHES = 2
+
 # Entries of a keeper's book.
 BOOK = 300

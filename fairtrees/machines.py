@@ -2,6 +2,7 @@
 
 from fairtrees.bounds import MOST, NAMES, WISHES
 from fairtrees.errors import NoMachine, NoWishes
+from fairtrees.knots import take_from
 from fairtrees.sets import is_names, is_set
 from fairtrees.signs import is_name, is_text, is_tuple_of
 
@@ -78,12 +79,4 @@ def back_rows(machine):
 
 def reached(machine, standing):
     """Tell the set of the standings to which steps lead from this one, itself with them."""
-    seen = {standing}
-    waiting = [standing]
-    while waiting:
-        at = waiting.pop()
-        for other in machine[0][at]:
-            if other not in seen:
-                seen.add(other)
-                waiting.append(other)
-    return tuple(sorted(seen))
+    return take_from(machine[0], standing, {})

@@ -3,7 +3,7 @@
 from fairtrees.bounds import CHANGES, JOINED, POINTS, SHEET
 from fairtrees.errors import NoSheet
 from fairtrees.knots import is_round, knots
-from fairtrees.signs import is_name, is_number_from, is_text_of, is_tuple_of
+from fairtrees.signs import is_name, is_number_from, is_text, is_tuple_of
 
 OPPOSITES = {
     "mark": "bare",
@@ -31,7 +31,7 @@ def check(thing):
 
 def is_row(thing, many):
     """Say of anything whether it can stand as a row of a sheet of so many."""
-    if not is_tuple_of(thing, 2, 2) or not is_text_of(thing[0], OPPOSITES):
+    if not is_tuple_of(thing, 2, 2) or not is_text(thing[0]) or thing[0] not in OPPOSITES:
         return False
     word, inner = thing
     if word in ("mark", "bare"):

@@ -3,9 +3,10 @@
 import functools
 import unittest
 
-from fairtrees import evidence, games, layouts, machines, notes, papers, parts, programs, rounds, runs, sayings, sheets, sides
-from fairtrees import telling, trees, walks, ways
-from fairtrees.errors import NoRun, TreeError
+from fairtrees import classes, evidence, games, layouts, machines, making, notes, papers, parts, partings, programs, rounds, runs
+from fairtrees import sayings, sheets, sides, telling, trees, walks, ways
+from fairtrees.errors import NoDeed, NoPaper, NoRun, TreeError
+from fairtrees.keeper import Keeper
 from tests import helper
 from tests.test_layouts import Right
 from tests.test_machines import ORDINARY as MACHINE
@@ -22,6 +23,13 @@ RUN = ((3, 1), (0, 1))
 
 def pair_of(path, ring):
     return runs.Run(path, ring).pair()
+
+
+def kept(machine, saying, deeds, *, wishes=()):
+    """Tell all that a keeper tells where it does these deeds one after the other, then as a batch, and goes back."""
+    keeper = Keeper(machine, saying, wishes=wishes)
+    told = [told_of(keeper.do, (deed,)) for deed in deeds] + [told_of(keeper.batch, (deeds,)), told_of(keeper.back, ())]
+    return repr(told), keeper.machine(), keeper.sets(), keeper.book(), len(keeper)
 
 
 QUESTIONS = [
@@ -71,6 +79,15 @@ QUESTIONS = [
     (sides.right_side, (MACHINE, SHEET, ([0, 0, -1, []], {}))),
     (sides.right_sheet_paper, (MACHINE, SHEET, sides.sheet_paper(MACHINE, SHEET))),
     (sides.right_sheet_paper, (MACHINE, SHEET, ([[0, 0, -1, []]], {}))),
+    (making.sheet_of, (SAYING[:6],), {"wishes": WISHES}), (making.sheet_of, (SAYING[:6],)), (making.sheet_of, (SAYING * 2,)),
+    (classes.classes, (MACHINE,)), (classes.classes, (OTHER,)),
+    (classes.right_classes, (MACHINE, classes.classes(MACHINE))), (classes.right_classes, (MACHINE, ([0, 0], [[0, "a"]]))),
+    (classes.alike, (MACHINE, 0, 1)), (classes.alike, (MACHINE, 2, 2)),
+    (classes.quotient, (MACHINE, (0, 1, 2, 3))), (classes.quotient, (OTHER, (0,))), (classes.quotient, (MACHINE, [0, [], {}])),
+    (partings.saying_of, (MACHINE, 0)), (partings.saying_of, (OTHER, 0)),
+    (partings.parting, (MACHINE, 0, 3)), (partings.parting, (MACHINE, 3, 0)), (partings.parting, (OTHER, 0, 0)),
+    (kept, (MACHINE, SAYING, (("put", 3, 3), ("mark", 3, "zz"), ["put", 0, 0], ("bare", 3, "zz"))), {"wishes": WISHES}),
+    (kept, (OTHER, SAYING, (("take", 0, 0), ("mark", 0, "a")))), (kept, (OTHER, SAYING, ())),
 ]
 
 
@@ -137,6 +154,9 @@ class Answers(unittest.TestCase):
             self.assertIs(trees.right_tree(MACHINE, SAYING, ((),) * 7, thing), False)
             self.assertIs(sides.right_side(MACHINE, SHEET, thing), type(thing) is tuple and thing == ())
             self.assertIs(sides.right_sheet_paper(MACHINE, SHEET, thing), False)
+            self.assertIs(classes.right_classes(MACHINE, thing), False)
+            self.assertIsInstance(helper.refusal(classes.quotient, MACHINE, thing), NoPaper)
+            self.assertIsInstance(helper.refusal(Keeper(MACHINE, SAYING).do, thing), NoDeed)
             told = helper.refusal(pair_of, thing, thing)
             self.assertTrue(type(told) is tuple or isinstance(told, NoRun), told)
 

@@ -203,6 +203,8 @@ class Language(unittest.TestCase):
         stored = {node.attr for name, node in nodes(ast.Attribute) if isinstance(node.ctx, ast.Store)}
         called = {id(node.func) for name, node in nodes(ast.Call)}
         self.assertEqual(stored & OWN_METHODS, set())
+        # Stored sets are added to, so no own method may be called so.
+        self.assertEqual((stored | OWN_METHODS) & {"add", "discard"}, set())
         for name, node in nodes(ast.Attribute):
             if isinstance(node.ctx, ast.Load) and id(node) not in called:
                 self.assertIn(node.attr, stored, (name, node.lineno))
@@ -224,6 +226,21 @@ class Language(unittest.TestCase):
                             fits = fits or isinstance(outer, ast.Compare) and inner in outer.comparators
                             fits = fits or is_call_of(outer, ("len", "sorted"))
                             self.assertTrue(fits, (name, inner.lineno))
+
+    def test_lists_and_dicts_at_module_level_are_only_read(self):
+        tables = {target.id for name, node in nodes(ast.Module) for one in node.body if isinstance(one, ast.Assign)
+                  and isinstance(one.value, (ast.List, ast.Dict)) for target in one.targets}
+        self.assertIn("PARTS", tables)
+        for name, tree in TREES.items():
+            for outer in ast.walk(tree):
+                for inner in ast.iter_child_nodes(outer):
+                    if isinstance(inner, ast.Name) and inner.id in tables and isinstance(inner.ctx, ast.Load):
+                        fits = isinstance(outer, ast.Subscript) and inner == outer.value and isinstance(outer.ctx, ast.Load)
+                        fits = fits or isinstance(outer, ast.Compare) and inner in outer.comparators
+                        fits = fits or isinstance(outer, ast.Attribute) and outer.attr in ("get", "items", "keys", "values")
+                        fits = fits or isinstance(outer, (ast.For, ast.comprehension)) and outer.iter == inner
+                        fits = fits or is_call_of(outer, ("list", "dict", "tuple", "sorted", "len"))
+                        self.assertTrue(fits, (name, inner.lineno))
 
     def test_loops_do_not_change_what_they_go_through(self):
         for name, node in nodes(ast.For):
