@@ -1,14 +1,13 @@
 """The sets of a sheet, by games: one player shows that a row has a standing, the other one that it does not."""
 
-from fairtrees.knots import ending_order
-from fairtrees.masks import Ground, standings_in
-from fairtrees.sheets import blocks_of, is_point, led_to, plain_leads, row_parts
+from fairtrees.masks import Ground, numbers_in
+from fairtrees.sheets import blocks_of, is_point, led_to, part_order, row_parts
 
 
 def by_games(machine, sheet):
     """Tell for each row of the sheet its set."""
     won, choices = play(machine, sheet)
-    return tuple([standings_in(won[number]) for number in range(len(sheet))])
+    return tuple([numbers_in(won[number]) for number in range(len(sheet))])
 
 
 def play(machine, sheet):
@@ -35,8 +34,7 @@ class Game:
         self.part = part
         self.choices = choices
         self.blocks = blocks_of(sheet, part)
-        # Rows come behind those to which they lead, the points last.
-        self.order = [*ending_order(plain_leads(sheet, part)), *[one for one in part if is_point(sheet[one])]]
+        self.order = part_order(sheet, part)
         self.backs = {number: [] for number in part}
         for number in part:
             for other in led_to(sheet[number]):
@@ -75,22 +73,26 @@ class Game:
     def attract(self, rest, goal, shows):
         """Tell the masks of where the player who shows, or the other one, can bring the game to the goal, in rest."""
         told = {number: goal[number] for number in goal}
-        waiting = list(self.order)
-        due = {number: True for number in waiting}
-        looked = 0
-        while looked < len(waiting):
-            number = waiting[looked]
-            looked += 1
-            due[number] = False
-            more = self.drawn(number, rest, told, shows) & rest[number] & ~told.get(number, 0)
-            if more:
-                if shows:
-                    self.choose(number, more, told)
-                told[number] = told.get(number, 0) | more
-                fresh = [other for other in self.backs[number] if not due[other]]
-                waiting.extend(fresh)
-                due.update({other: True for other in fresh})
+        due = {number: True for number in self.order}
+        grown = True
+        # By turns in this order a row is looked at behind those to which it leads, not once for each of them.
+        while grown:
+            grown = False
+            for number in self.order:
+                if due[number]:
+                    due[number] = False
+                    more = self.drawn(number, rest, told, shows) & rest[number] & ~told.get(number, 0)
+                    if more:
+                        grown = True
+                        self.take(number, more, told, shows)
+                        due.update({other: True for other in self.backs[number]})
         return told
+
+    def take(self, number, more, told, shows):
+        """Take these standings of a row into what is told and, for the player who shows, note the moves there."""
+        if shows:
+            self.choose(number, more, told)
+        told[number] = told.get(number, 0) | more
 
     def drawn(self, number, rest, told, shows):
         """Tell the mask of where a row leads to what is told: by a move of the player, or by each of the other one."""
@@ -116,10 +118,10 @@ class Game:
         word, inner = self.rows[number]
         if word == "or":
             for other in inner:
-                for standing in standings_in(more & told.get(other, 0)):
+                for standing in numbers_in(more & told.get(other, 0)):
                     self.choices[(number, standing)] = other
         elif word == "some":
-            for standing in standings_in(more):
+            for standing in numbers_in(more):
                 led = [other for other in self.ground.onward[standing] if told[inner] >> other & 1]
                 self.choices[(number, standing)] = led[0]
 

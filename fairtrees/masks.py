@@ -3,17 +3,17 @@
 from fairtrees.machines import bearers, standings_of
 
 
-def mask_of(standings):
-    """Tell the mask of these standings."""
+def mask_of(numbers):
+    """Tell the mask of these numbers."""
     mask = 0
-    for standing in standings:
-        mask |= 1 << standing
+    for number in numbers:
+        mask |= 1 << number
     return mask
 
 
-def standings_in(mask):
-    """Tell the set of the standings of a mask."""
-    return tuple([standing for standing in range(mask.bit_length()) if mask >> standing & 1])
+def numbers_in(mask):
+    """Tell the rising tuple of the numbers of a mask."""
+    return tuple([number for number in range(mask.bit_length()) if mask >> number & 1])
 
 
 class Ground:

@@ -1,7 +1,7 @@
 """The sets of a sheet, by rounds: points begin as nothing or as everything and are carried on until nothing changes."""
 
 from fairtrees.knots import ending_order
-from fairtrees.masks import Ground, standings_in
+from fairtrees.masks import Ground, numbers_in
 from fairtrees.sheets import blocks_of, plain_leads, row_parts
 
 
@@ -11,7 +11,7 @@ def by_rounds(machine, sheet):
     told = [0 for row in sheet]
     for part in row_parts(sheet):
         Nest(ground, sheet, part, told).go_round(())
-    return tuple([standings_in(mask) for mask in told])
+    return tuple([numbers_in(mask) for mask in told])
 
 
 class Nest:

@@ -2,7 +2,7 @@
 
 from fairtrees.bounds import CHANGES, JOINED, POINTS, SHEET
 from fairtrees.errors import NoSheet
-from fairtrees.knots import is_round, knots
+from fairtrees.knots import ending_order, is_round, knots
 from fairtrees.signs import is_name, is_number_from, is_text, is_tuple_of
 
 OPPOSITES = {
@@ -71,6 +71,11 @@ def plain_leads(sheet, part):
     return {number: [other for other in led_to(sheet[number]) if other in plain] for number in plain}
 
 
+def part_order(sheet, part):
+    """Tell the rows of a part, each behind those to which it leads, but the least and greatest ones last."""
+    return [*ending_order(plain_leads(sheet, part)), *[number for number in part if is_point(sheet[number])]]
+
+
 def blocks_of(sheet, part):
     """Tell the least and greatest rows of a part by their numbers, in lists: neighbours of one word in one list."""
     blocks = []
@@ -80,6 +85,11 @@ def blocks_of(sheet, part):
                 blocks.append([])
             blocks[-1].append(number)
     return blocks
+
+
+def least_rows(sheet, part):
+    """Tell the numbers of the least rows of a part, rising."""
+    return tuple([number for number in part if sheet[number][0] == "least"])
 
 
 def opposite(sheet):

@@ -1,10 +1,10 @@
 """Sides of a sheet: entries that lean on one another and show which standings rows have. Papers have two sides."""
 
 from fairtrees.games import play
-from fairtrees.knots import knots
 from fairtrees.machines import bears
-from fairtrees.masks import standings_in
-from fairtrees.sheets import is_point, opposite, row_parts
+from fairtrees.masks import numbers_in
+from fairtrees.ranking import ranks_of
+from fairtrees.sheets import is_point, least_rows, opposite, row_parts
 from fairtrees.signs import is_number, is_number_from, is_tuple, is_tuple_of
 
 
@@ -28,11 +28,6 @@ def homes_of(sheet):
         for number in part:
             homes[number] = (home, leasts)
     return homes
-
-
-def least_rows(sheet, part):
-    """Tell the numbers of the least rows of a part, rising."""
-    return tuple([number for number in part if sheet[number][0] == "least"])
 
 
 def is_entry(machine, sheet, homes, thing):
@@ -128,41 +123,9 @@ def side_of(machine, sheet):
     choices = {}
     leans = {}
     for number, row in enumerate(sheet):
-        for standing in standings_in(won[number]):
+        for standing in numbers_in(won[number]):
             choice = chosen[(number, standing)] if row[0] in ("or", "some") else -1
             choices[(number, standing)] = choice
             leans[(number, standing)] = leans_of(machine, sheet, number, standing, choice)
     ranks = ranks_of(sheet, leans)
-    return tuple([(*place, choices[place], tuple(ranks[place])) for place in choices])
-
-
-def ranks_of(sheet, leans):
-    """Tell for each place a list of pairs (least row, many) by which entries at these places lean in the right way."""
-    ranks = {place: [] for place in leans}
-    places = [[] for row in sheet]
-    for place in leans:
-        places[place[0]].append(place)
-    for part in row_parts(sheet):
-        inside = [place for number in part for place in places[number]]
-        for least in least_rows(sheet, part):
-            counts = most_passed(sheet, leans, inside, least)
-            for place in inside:
-                if counts[place] > 0:
-                    ranks[place].append((least, counts[place]))
-    return ranks
-
-
-def most_passed(sheet, leans, inside, least):
-    """Tell for each place of a part how often a way of leaning passes the least row ahead of a point further out."""
-    ahead = {place: [] for place in inside}
-    for place in inside:
-        # A point of lesser number is further out: there the counting ends.
-        if not is_point(sheet[place[0]]) or place[0] >= least:
-            ahead[place].extend([other for other in leans[place] if other in ahead])
-    told = {}
-    # No way of leaning passes the row again and again, so of a knot of several places none is of the row.
-    for knot in knots(ahead):
-        most = max([told[other] for place in knot for other in ahead[place] if other in told], default=0)
-        for place in knot:
-            told[place] = most + 1 if place[0] == least else most
-    return told
+    return tuple([(*place, choices[place], ranks[place]) for place in choices])

@@ -267,6 +267,17 @@ class Sets(unittest.TestCase):
             self.assertEqual(self.sets(machine, tuple(rows)), by_nesting(machine, tuple(rows)))
 
 
+def wide_sheet(words, many):
+    """Tell a sheet of so many rows, in one part, whose points have these words and most of whose rows have 40 numbers."""
+    points = len(words)
+    ends = [("all", number) for number in range(points)]
+    rows = [(word, points + number) for number, word in enumerate(words)]
+    while len(rows) < many - points:
+        at = len(rows)
+        rows.append(("and", tuple(min(at + 1 + step, many - points + (at + step) % points) for step in range(40))))
+    return tuple(rows + ends)
+
+
 class Swift(unittest.TestCase):
     """What is asked here is told within so many lines of Python, of rows of sheets, standings and turns."""
 
@@ -309,6 +320,13 @@ class Swift(unittest.TestCase):
         chain = (tuple((one + 1,) for one in range(many - 1)) + ((),), ((),) * (many - 1) + (("a",),))
         told = self.swift(chain, sheet)
         self.assertEqual((told[0], told[1]), (ALL[:many], ()))
+
+    def test_rows_with_40_numbers_in_one_part(self):
+        # All of it holds at the chain's last standing, then at the one ahead of it, and so on.
+        for words in (["least"] * 12, ["least"] * 6 + ["greatest"] * 6, ["greatest"] * 4 + ["least"] * 4 + ["greatest"] * 4):
+            sheet = wide_sheet(words, 150)
+            self.assertIs(check(sheet), True)
+            self.assertEqual(self.swift(CHAIN, sheet), (ALL,) * 150)
 
     def test_rows_with_40_numbers(self):
         sheet = tuple(("and" if number % 2 else "or", tuple(range(number + 1, min(100, number + 41))))

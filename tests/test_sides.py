@@ -8,7 +8,7 @@ from fairtrees.sheets import check, opposite
 from fairtrees.sides import right_sheet_paper, right_side, sheet_paper
 from tests import helper
 from tests.helper import put
-from tests.test_rounds import AGAIN, ALL, CHAIN, MACHINE, ONCE, RING
+from tests.test_rounds import AGAIN, ALL, CHAIN, MACHINE, ONCE, RING, wide_sheet
 from tests.test_sheets import ORDINARY, ring
 
 # 0 and 1 lead to one another, 2 to 1 and to 3, 3 to nobody.
@@ -376,6 +376,14 @@ class Paper(Case):
         self.check(CHAIN, (("least", 1),) + tuple(("all", (number + 1) % 1000) for number in range(1, 1000)))
         self.check(SMALL, (("greatest", 999),) + tuple(("some", number - 1) for number in range(1, 1000)))
         self.check(SMALL, tuple(("least" if number % 100 == 0 else "some", (number + 1) % 1000) for number in range(1000)))
+
+    def test_wide_rows_are_told_swiftly(self):
+        for words in (["least"] * 12, ["least"] * 6 + ["greatest"] * 6):
+            sheet = wide_sheet(words, 60)
+            told = helper.sooner(3000000, sheet_paper, CHAIN, sheet)
+            self.assertEqual((len(told[0]), told[1]), (60 * 40, ()))
+            self.assertIs(right_sheet_paper(CHAIN, sheet, told), True)
+            self.assertTrue(judge_side(CHAIN, sheet, told[0]))
 
     def test_one_standing(self):
         for machine in ((((),), ((),)), (((0,),), ((),)), (((0,),), (("a",),))):
